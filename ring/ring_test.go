@@ -4,24 +4,9 @@ import (
 	"math"
 	"slices"
 	"testing"
-)
 
-// listsOf answers all lists of at most most numbers out of numbers.
-func listsOf(most int, numbers ...int) [][]int {
-	all := [][]int{nil}
-	last := all
-	for range most {
-		var next [][]int
-		for _, l := range last {
-			for _, x := range numbers {
-				next = append(next, append(slices.Clone(l), x))
-			}
-		}
-		all = append(all, next...)
-		last = next
-	}
-	return all
-}
+	"tracery/sample"
+)
 
 // begunAt answers l, begun at a place, taken number by number.
 func begunAt(l []int, at int) []int {
@@ -63,7 +48,7 @@ func TestRight(t *testing.T) {
 }
 
 func TestRightOfShortLists(t *testing.T) {
-	for _, l := range listsOf(5, 0, 1, 2, 3) {
+	for _, l := range sample.Lists(5, 0, 1, 2, 3) {
 		want := true
 		for i, x := range l {
 			want = want && placeOf(l, x) == i
@@ -91,7 +76,7 @@ func TestFirst(t *testing.T) {
 }
 
 func TestFirstOfShortLists(t *testing.T) {
-	for _, l := range listsOf(5, -1, 0, 1, 2) {
+	for _, l := range sample.Lists(5, -1, 0, 1, 2) {
 		at := 0
 		for i, x := range l {
 			if x < l[at] {
@@ -126,7 +111,7 @@ func TestSame(t *testing.T) {
 }
 
 func TestSameOfShortLists(t *testing.T) {
-	lists := append(listsOf(5, 1, 2, 3), listsOf(7, 1, 2)...)
+	lists := append(sample.Lists(5, 1, 2, 3), sample.Lists(7, 1, 2)...)
 	for _, a := range lists {
 		for _, b := range lists {
 			want := len(a) == 0 && len(b) == 0
@@ -256,7 +241,7 @@ func TestFrom(t *testing.T) {
 }
 
 func TestPlacesOfShortLists(t *testing.T) {
-	for _, l := range listsOf(5, 0, 1, 2, 3) {
+	for _, l := range sample.Lists(5, 0, 1, 2, 3) {
 		for x := -1; x <= 4; x++ {
 			after, before, from := 0, 0, []int(nil)
 			at := placeOf(l, x)
@@ -325,8 +310,8 @@ func inOrder(l []int, a, b, c int) bool {
 }
 
 func TestOrderOfShortLists(t *testing.T) {
-	for _, l := range listsOf(5, 0, 1, 2, 3) {
-		for _, k := range listsOf(3, 0, 1, 2, 3, 4) {
+	for _, l := range sample.Lists(5, 0, 1, 2, 3) {
+		for _, k := range sample.Lists(3, 0, 1, 2, 3, 4) {
 			if len(k) < 3 {
 				continue
 			}
@@ -413,7 +398,7 @@ func labelsOf(l []int) ([]int, bool) {
 }
 
 func TestLabelsOfShortLists(t *testing.T) {
-	for _, l := range append(listsOf(6, 0, 1, 2), listsOf(5, 0, 1, 2, 3)...) {
+	for _, l := range append(sample.Lists(6, 0, 1, 2), sample.Lists(5, 0, 1, 2, 3)...) {
 		want, right := labelsOf(l)
 		if m, ok := Labels(l); ok != right || !slices.Equal(m, want) {
 			t.Errorf("Labels(%v) = %v, %v", l, m, ok)
@@ -424,7 +409,7 @@ func TestLabelsOfShortLists(t *testing.T) {
 // Promise 2.4: rings begun elsewhere, turned about, and what is ahead of what is behind.
 
 func TestRingsBegunElsewhere(t *testing.T) {
-	for _, l := range listsOf(5, 0, 1, 2, 3) {
+	for _, l := range sample.Lists(5, 0, 1, 2, 3) {
 		if !Same(l, l) || !Same(l, First(l)) {
 			t.Errorf("%v is not the same as itself begun with its least number", l)
 		}
@@ -444,7 +429,7 @@ func TestRingsBegunElsewhere(t *testing.T) {
 }
 
 func TestTurnedAboutTwice(t *testing.T) {
-	for _, l := range listsOf(5, 0, 1, 2, 3) {
+	for _, l := range sample.Lists(5, 0, 1, 2, 3) {
 		about := About(l)
 		if !slices.Equal(About(about), l) {
 			t.Errorf("%v turned about twice is %v", l, About(about))
@@ -458,7 +443,7 @@ func TestTurnedAboutTwice(t *testing.T) {
 }
 
 func TestAheadOfWhatIsBehind(t *testing.T) {
-	for _, l := range listsOf(4, 0, 1, 2, 3) {
+	for _, l := range sample.Lists(4, 0, 1, 2, 3) {
 		if !Right(l) {
 			continue
 		}
@@ -531,7 +516,7 @@ func fill(l []int, x int) {
 
 func TestNothingIsChangedOrShared(t *testing.T) {
 	for name, call := range calls() {
-		for _, l := range listsOf(4, 1, 2, 3) {
+		for _, l := range sample.Lists(4, 1, 2, 3) {
 			for _, m := range [][]int{nil, {1}, {2, 3}, slices.Clone(l)} {
 				for x := range 5 {
 					checkMemory(t, name, call, withRoom(l), x, withRoom(m))
@@ -559,7 +544,7 @@ func checkMemory(t *testing.T, name string, call func(l []int, x int, m []int) [
 
 // A false says that there is nothing: the other answer is empty.
 func TestNothingBesideFalse(t *testing.T) {
-	for _, l := range listsOf(4, 1, 2, 3) {
+	for _, l := range sample.Lists(4, 1, 2, 3) {
 		from, ok := From(l, 4)
 		put, done := Put(l, 4, l)
 		if ok || done || len(from) > 0 || len(put) > 0 {

@@ -1,0 +1,114 @@
+package sample
+
+import (
+	"errors"
+	"slices"
+
+	"tracery/api"
+)
+
+// What stands in the spare room behind each list, and how much of it there is.
+const (
+	mark  = 77
+	spare = 3
+)
+
+// Room keeps lists that are handed in, each in memory of its own with spare room behind it, to tell what became of them.
+type Room struct {
+	lists, oldLists [][]int
+	edges, oldEdges [][]api.Edge
+}
+
+// List lays a list into the room.
+func (r *Room) List(l []int) []int {
+	laid, old := lay(l, mark)
+	r.lists, r.oldLists = append(r.lists, laid), append(r.oldLists, old)
+	return laid
+}
+
+// Graph lays a graph into the room.
+func (r *Room) Graph(g api.Graph) api.Graph {
+	laid, old := lay(g.E, api.Edge{A: mark, B: mark})
+	r.edges, r.oldEdges = append(r.edges, laid), append(r.oldEdges, old)
+	return api.Graph{N: g.N, E: laid}
+}
+
+// Part lays a part into the room.
+func (r *Room) Part(p api.Part) api.Part {
+	return api.Part{V: r.List(p.V), E: r.List(p.E)}
+}
+
+// Fault answers what a call does that it may not: it changes what was laid into the room, keeps it, or hands out lists that share memory. The room is of no use behind it.
+func (r *Room) Fault(call func() [][]int) error {
+	answer, other := call(), call()
+	var want [][]int
+	for _, l := range answer {
+		want = append(want, slices.Clone(l))
+	}
+	for _, l := range other {
+		fill(l, -1)
+	}
+	if !r.isOld() {
+		return errors.New("what is handed in is changed, or shared")
+	}
+	r.fill()
+	for i, l := range answer {
+		if !slices.Equal(l, want[i]) {
+			return errors.New("a list is shared with what is handed in, or with another answer")
+		}
+		// Each list is filled with a number of its own: the lists behind it show it, if they share its memory.
+		fill(l, -3-i)
+	}
+	for i, l := range answer {
+		for _, x := range whole(l) {
+			if x != -3-i {
+				return errors.New("two lists of one answer share memory")
+			}
+		}
+	}
+	return nil
+}
+
+// isOld tells whether all lists are as they were laid in.
+func (r *Room) isOld() bool {
+	for i, l := range r.lists {
+		if !slices.Equal(whole(l), r.oldLists[i]) {
+			return false
+		}
+	}
+	for i, l := range r.edges {
+		if !slices.Equal(whole(l), r.oldEdges[i]) {
+			return false
+		}
+	}
+	return true
+}
+
+// fill writes over all lists.
+func (r *Room) fill() {
+	for _, l := range r.lists {
+		fill(l, -2)
+	}
+	for _, l := range r.edges {
+		fill(l, api.Edge{A: -2, B: -2})
+	}
+}
+
+// lay answers a copy of a list with spare room behind it, filled with x, and what stands in all of that.
+func lay[T any](l []T, x T) ([]T, []T) {
+	laid := append(make([]T, 0, len(l)+spare), l...)
+	fill(laid[len(l):], x)
+	return laid, slices.Clone(whole(laid))
+}
+
+// whole answers a list and the spare room behind it.
+func whole[T any](l []T) []T {
+	return l[:cap(l)]
+}
+
+// fill writes over a list and the spare room behind it.
+func fill[T any](l []T, x T) {
+	for i := range whole(l) {
+		whole(l)[i] = x
+	}
+}
