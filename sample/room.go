@@ -15,14 +15,26 @@ const (
 
 // Room keeps lists that are handed in, each in memory of its own with spare room behind it, to tell what became of them.
 type Room struct {
-	lists, oldLists [][]int
-	edges, oldEdges [][]api.Edge
+	lists, oldLists   [][]int
+	edges, oldEdges   [][]api.Edge
+	tables, oldTables [][][]int
 }
 
 // List lays a list into the room.
 func (r *Room) List(l []int) []int {
 	laid, old := lay(l, mark)
 	r.lists, r.oldLists = append(r.lists, laid), append(r.oldLists, old)
+	return laid
+}
+
+// Table lays a list of lists into the room, and each of them.
+func (r *Room) Table(t [][]int) [][]int {
+	var lists [][]int
+	for _, l := range t {
+		lists = append(lists, r.List(l))
+	}
+	laid, old := lay(lists, []int{mark})
+	r.tables, r.oldTables = append(r.tables, laid), append(r.oldTables, old)
 	return laid
 }
 
@@ -51,7 +63,7 @@ func (r *Room) Fault(call func() [][]int) error {
 	if !r.isOld() {
 		return errors.New("what is handed in is changed, or shared")
 	}
-	r.fill()
+	r.Spoil()
 	for i, l := range answer {
 		if !slices.Equal(l, want[i]) {
 			return errors.New("a list is shared with what is handed in, or with another answer")
@@ -81,16 +93,29 @@ func (r *Room) isOld() bool {
 			return false
 		}
 	}
+	for i, t := range r.tables {
+		if !slices.EqualFunc(whole(t), r.oldTables[i], isOne) {
+			return false
+		}
+	}
 	return true
 }
 
-// fill writes over all lists.
-func (r *Room) fill() {
+// isOne tells whether two lists are one in memory; those that the room knows of all have some.
+func isOne(a, b []int) bool {
+	return len(a) == len(b) && cap(a) == cap(b) && cap(a) > 0 && &whole(a)[0] == &whole(b)[0]
+}
+
+// Spoil writes over all that was laid into the room: what keeps it shows it.
+func (r *Room) Spoil() {
 	for _, l := range r.lists {
 		fill(l, -2)
 	}
 	for _, l := range r.edges {
 		fill(l, api.Edge{A: -2, B: -2})
+	}
+	for _, t := range r.tables {
+		fill(t, []int{-2})
 	}
 }
 

@@ -1,4 +1,4 @@
-// Package sample makes what tests of several layers hand in: small graphs and all of their parts, graphs that aren't right, lists with spare room. No layer calls it.
+// Package sample makes what tests of several layers hand in: small graphs, all of their parts and these parts' turns, graphs that aren't right, lists with spare room. No layer calls it.
 package sample
 
 import (
@@ -110,6 +110,60 @@ func IsPart(g api.Graph, p api.Part) bool {
 		}
 	}
 	return true
+}
+
+// Turns answers all turns of a right part, each list begun with its least dart.
+func Turns(g api.Graph, p api.Part) [][][]int {
+	all := [][][]int{nil}
+	for v := range g.N {
+		var next [][][]int
+		for _, turn := range all {
+			for _, l := range rounds(Leaving(g, p, v)) {
+				next = append(next, append(slices.Clone(turn), l))
+			}
+		}
+		all = next
+	}
+	return all
+}
+
+// Leaving answers the darts of a part that leave a vertex, rising, in the plainest way.
+func Leaving(g api.Graph, p api.Part, v int) []int {
+	var darts []int
+	for _, e := range p.E {
+		for i, end := range []int{g.E[e].A, g.E[e].B} {
+			if end == v {
+				darts = append(darts, 2*e+i)
+			}
+		}
+	}
+	return darts
+}
+
+// rounds answers all orders of a list that begin as it does.
+func rounds(l []int) [][]int {
+	if len(l) == 0 {
+		return [][]int{nil}
+	}
+	var all [][]int
+	for _, rest := range orders(l[1:]) {
+		all = append(all, append([]int{l[0]}, rest...))
+	}
+	return all
+}
+
+// orders answers all orders of a list.
+func orders(l []int) [][]int {
+	if len(l) == 0 {
+		return [][]int{nil}
+	}
+	var all [][]int
+	for i, x := range l {
+		for _, rest := range orders(slices.Concat(l[:i], l[i+1:])) {
+			all = append(all, append([]int{x}, rest...))
+		}
+	}
+	return all
 }
 
 // Alike tells whether two parts have the same.

@@ -33,6 +33,64 @@ func TestGraphsAndParts(t *testing.T) {
 	}
 }
 
+func TestTurns(t *testing.T) {
+	// A loop at 0, an edge to 1 and one from there; nothing at 2.
+	g := api.Graph{N: 3, E: Edges(0, 0, 0, 1, 1, 0)}
+	want := [][]int{
+		{0, 1, 2, 5}, {3, 4}, nil,
+		{0, 1, 5, 2}, {3, 4}, nil,
+		{0, 2, 1, 5}, {3, 4}, nil,
+		{0, 2, 5, 1}, {3, 4}, nil,
+		{0, 5, 1, 2}, {3, 4}, nil,
+		{0, 5, 2, 1}, {3, 4}, nil,
+	}
+	turns := slices.Concat(Turns(g, api.Part{V: UpTo(3), E: UpTo(3)})...)
+	if !slices.EqualFunc(turns, want, slices.Equal) {
+		t.Errorf("Turns: %v", turns)
+	}
+	turns = slices.Concat(Turns(g, api.Part{V: UpTo(2), E: []int{1}})...)
+	if !slices.EqualFunc(turns, [][]int{{2}, {3}, nil}, slices.Equal) {
+		t.Errorf("Turns of one edge: %v", turns)
+	}
+	if all := Turns(api.Graph{}, api.Part{}); len(all) != 1 || len(all[0]) > 0 {
+		t.Errorf("Turns of nothing: %v", all)
+	}
+}
+
+func TestFaultOfTables(t *testing.T) {
+	for name, c := range map[string]struct {
+		call func(table [][]int) [][]int
+		bad  bool
+	}{
+		"new lists":               {func(table [][]int) [][]int { return [][]int{slices.Concat(table...)} }, false},
+		"what is handed in":       {func(table [][]int) [][]int { return table }, true},
+		"one of its lists":        {func(table [][]int) [][]int { return [][]int{table[1]} }, true},
+		"writes to a list":        {func(table [][]int) [][]int { table[0][0]++; return nil }, true},
+		"takes another list":      {func(table [][]int) [][]int { table[0] = slices.Clone(table[0]); return nil }, true},
+		"takes a shorter list":    {func(table [][]int) [][]int { table[0] = table[0][:1]; return nil }, true},
+		"takes no list":           {func(table [][]int) [][]int { table[2] = nil; return nil }, true},
+		"takes another one's":     {func(table [][]int) [][]int { table[0] = table[1]; return nil }, true},
+		"writes behind a list":    {func(table [][]int) [][]int { _ = append(table[2], 5); return nil }, true},
+		"writes behind the lists": {func(table [][]int) [][]int { _ = append(table, nil); return nil }, true},
+	} {
+		room := &Room{}
+		table := room.Table([][]int{{1, 2}, {3, 4}, nil})
+		if err := room.Fault(func() [][]int { return c.call(table) }); (err != nil) != c.bad {
+			t.Errorf("%s: %v", name, err)
+		}
+	}
+}
+
+func TestSpoil(t *testing.T) {
+	room := &Room{}
+	g, table := room.Graph(Ring(2)), room.Table([][]int{{1, 2}, nil})
+	list := table[0]
+	room.Spoil()
+	if g.E[0].A >= 0 || g.E[1].B >= 0 || list[0] >= 0 || list[:3][2] >= 0 || len(table[1]) != 1 || len(table[:3][2]) != 1 {
+		t.Errorf("left: %v, %v, %v", g, list[:3], table[:3])
+	}
+}
+
 func TestFault(t *testing.T) {
 	var kept []int
 	one := []int{1, 2, 3, 4}
