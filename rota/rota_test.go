@@ -30,40 +30,6 @@ func areTurnsOf(g api.Graph, p api.Part, turn [][]int) bool {
 	return true
 }
 
-// isBehind tells whether a dart stands right behind another one in a list of turns, going round.
-func isBehind(turn [][]int, d, other int) bool {
-	for _, l := range turn {
-		for i, x := range l {
-			if x == other && l[(i+1)%len(l)] == d {
-				return true
-			}
-		}
-	}
-	return false
-}
-
-// turned answers each list, begun so many places further on.
-func turned(turn [][]int, places int) [][]int {
-	all := make([][]int, len(turn))
-	for v, l := range turn {
-		for i := range l {
-			all[v] = append(all[v], l[(i+places)%len(l)])
-		}
-	}
-	return all
-}
-
-// about answers each list turned about, begun with what it begins with.
-func about(turn [][]int) [][]int {
-	all := make([][]int, len(turn))
-	for v, l := range turn {
-		for i := range l {
-			all[v] = append(all[v], l[(len(l)-i)%len(l)])
-		}
-	}
-	return all
-}
-
 // fourOf answers all that is told of a dart: After, Before, Next, Back; false, if it is no dart of theirs. They are of one mind about that.
 func fourOf(t *testing.T, r *Rota, d int) ([4]int, bool) {
 	t.Helper()
@@ -90,10 +56,10 @@ func checkTurns(t *testing.T, g api.Graph, p api.Part, r *Rota, turn [][]int) {
 			continue
 		}
 		twin := 2*(d/2) + 1 - d%2
-		behind := isBehind(turn, four[0], d) && isBehind(turn, d, four[1])
+		behind := sample.IsBehind(turn, four[0], d) && sample.IsBehind(turn, d, four[1])
 		// Around faces: ahead of d's twin stands Next, and ahead of the twin of Back stands d.
 		backsTwin := 2*(four[3]/2) + 1 - four[3]%2
-		if !behind || !isBehind(turn, twin, four[2]) || !isBehind(turn, backsTwin, d) {
+		if !behind || !sample.IsBehind(turn, twin, four[2]) || !sample.IsBehind(turn, backsTwin, d) {
 			t.Fatalf("%v, %v: %v: %d: %v", g, p, turn, d, four)
 		}
 	}
@@ -153,12 +119,12 @@ func TestSmallGraphs(t *testing.T) {
 	for _, g := range append(sample.Graphs(3, 2), sample.Graphs(2, 3)...) {
 		for _, p := range sample.Parts(g) {
 			for i, turn := range sample.Turns(g, p) {
-				r, e := New(g, p, turned(turn, i))
+				r, e := New(g, p, sample.Turned(turn, i))
 				if e != api.OK {
-					t.Fatalf("%v, %v: New of %v: %d", g, p, turned(turn, i), e)
+					t.Fatalf("%v, %v: New of %v: %d", g, p, sample.Turned(turn, i), e)
 				}
 				checkTurns(t, g, p, r, turn)
-				checkTurns(t, g, p, r.Mirror(), about(turn))
+				checkTurns(t, g, p, r.Mirror(), sample.About(turn))
 				checkUndone(t, r)
 			}
 		}
@@ -252,8 +218,8 @@ func TestNew(t *testing.T) {
 		turn [][]int
 	}{
 		{g, all, mixedTurn()},
-		{g, all, turned(mixedTurn(), 1)},
-		{g, all, about(mixedTurn())},
+		{g, all, sample.Turned(mixedTurn(), 1)},
+		{g, all, sample.About(mixedTurn())},
 		{g, all, [][]int{{0, 5, 6, 7, 9}, {1, 2, 8}, {3, 4, 13}, nil, {10, 11}, {12}}},
 		// Parts.
 		{g, api.Part{V: []int{0, 1, 2, 4}, E: []int{1, 2, 4}}, [][]int{{5, 9}, {8, 2}, {4, 3}, nil, nil, nil}},
@@ -352,11 +318,7 @@ func TestNewOfWhatIsntInThePart(t *testing.T) {
 func TestFirstErrors(t *testing.T) {
 	g := mixed()
 	turns := [][][]int{nil, mixedTurn(), {{0}}, {{-1}, nil, nil, nil, nil, nil}, make([][]int, 6)}
-	for _, p := range []api.Part{
-		{V: []int{1, 0}}, {V: []int{0, 0}}, {V: []int{6}}, {V: []int{-1}}, {V: []int{0}, E: []int{0}}, {E: []int{0}},
-		{V: sample.UpTo(6), E: []int{1, 0}}, {V: sample.UpTo(6), E: []int{7}}, {V: sample.UpTo(6), E: []int{-1}}, {V: sample.UpTo(6), E: []int{0, 0}},
-		{V: []int{0, 1, 2, 3, 4}, E: sample.UpTo(7)}, {V: sample.UpTo(7), E: sample.UpTo(7)}, {V: []int{least}}, {V: sample.UpTo(6), E: []int{greatest}},
-	} {
+	for _, p := range sample.WrongParts(g) {
 		for _, turn := range turns {
 			checkNoTurns(t, g, p, turn, api.ErrPart)
 		}
@@ -449,7 +411,7 @@ func TestAtAndTurn(t *testing.T) {
 	want := [][]int{{0, 7, 5, 9, 6}, {1, 2, 8}, {3, 13, 4}, nil, {10, 11}, {12}}
 	for i := range 5 {
 		// The list handed in begins with any of its darts.
-		r, e := New(g, graph.Whole(g), turned(mixedTurn(), i))
+		r, e := New(g, graph.Whole(g), sample.Turned(mixedTurn(), i))
 		if e != api.OK || !slices.EqualFunc(r.Turn(), want, slices.Equal) {
 			t.Errorf("%d: Turn: %v, %d", i, r.Turn(), e)
 		}
@@ -553,29 +515,9 @@ func TestNil(t *testing.T) {
 
 // Promise 6.3, of great turns.
 
-// mingled answers the numbers of a list, how many not a multiple of 5, in some other order.
-func mingled(l []int) []int {
-	var out []int
-	for i := range l {
-		out = append(out, l[i*5%len(l)])
-	}
-	return out
-}
-
 func TestGreatTurns(t *testing.T) {
-	star, bundle := api.Graph{N: 512}, api.Graph{N: 2}
-	for v := 1; v < 512; v++ {
-		star.E = append(star.E, api.Edge{A: v})
-	}
-	for range 1022 {
-		bundle.E = append(bundle.E, api.Edge{B: 1})
-	}
-	for name, g := range map[string]api.Graph{"loops": {N: 1, E: sample.Loops(1023)}, "ring": sample.Ring(512), "star": star, "bundle": bundle} {
-		var turn [][]int
-		for v := range g.N {
-			turn = append(turn, mingled(sample.Leaving(g, graph.Whole(g), v)))
-		}
-		r, e := New(g, graph.Whole(g), turn)
+	for name, g := range map[string]api.Graph{"loops": {N: 1, E: sample.Loops(1023)}, "ring": sample.Ring(512), "star": sample.Star(512), "bundle": sample.Bundle(1022)} {
+		r, e := New(g, graph.Whole(g), sample.Mingled(g))
 		if e != api.OK {
 			t.Fatalf("%s: New: %d", name, e)
 		}
@@ -612,6 +554,18 @@ func told(r *Rota) [][]int {
 	return append(lists, steps)
 }
 
+// toldOf answers a call that tells all of turns that it makes, and of those that it made when it was called first.
+func toldOf() func(api.Graph, api.Part, [][]int) [][]int {
+	var made *Rota
+	return func(g api.Graph, p api.Part, turn [][]int) [][]int {
+		r, _ := New(g, p, turn)
+		if made == nil {
+			made = r
+		}
+		return slices.Concat(told(made), told(made.Mirror()), told(r), told(r), told(r.Mirror()))
+	}
+}
+
 func TestNothingIsChangedOrShared(t *testing.T) {
 	graphs := append(sample.Graphs(2, 2), mixed())
 	for _, g := range graphs {
@@ -620,16 +574,7 @@ func TestNothingIsChangedOrShared(t *testing.T) {
 				if g.N > 2 && i > 0 {
 					break // one of many
 				}
-				room := &sample.Room{}
-				laidGraph, laidPart, laidTurn := room.Graph(g), room.Part(p), room.Table(turned(turn, 1))
-				made, e := New(laidGraph, laidPart, laidTurn)
-				if e != api.OK {
-					t.Fatalf("%v, %v: New of %v: %d", g, p, turn, e)
-				}
-				err := room.Fault(func() [][]int {
-					r, _ := New(laidGraph, laidPart, laidTurn)
-					return slices.Concat(told(made), told(made.Mirror()), told(r), told(r), told(r.Mirror()))
-				})
+				err := sample.FaultOf(g, p, sample.Turned(turn, 1), toldOf())
 				if err != nil {
 					t.Fatalf("%v, %v, %v: %v", g, p, turn, err)
 				}
@@ -643,9 +588,7 @@ func TestRefusedListsArentChanged(t *testing.T) {
 	for _, wrong := range [][]int{{0, 5, 6, 7}, {9, 0, 5, 6, 6}, {9, 0, 5, 6, 14}, nil} {
 		turn := mixedTurn()
 		turn[0] = wrong
-		room := &sample.Room{}
-		laidGraph, laidPart, laidTurn := room.Graph(g), room.Part(graph.Whole(g)), room.Table(turn)
-		if err := room.Fault(func() [][]int { New(laidGraph, laidPart, laidTurn); return nil }); err != nil {
+		if err := sample.FaultOf(g, graph.Whole(g), turn, toldOf()); err != nil {
 			t.Errorf("%v: %v", wrong, err)
 		}
 	}

@@ -81,6 +81,13 @@ func (r *Room) Fault(call func() [][]int) error {
 	return nil
 }
 
+// FaultOf answers the fault of a call that takes a graph, a part and turns, laid into a room of their own.
+func FaultOf(g api.Graph, p api.Part, turn [][]int, call func(api.Graph, api.Part, [][]int) [][]int) error {
+	room := &Room{}
+	g, p, turn = room.Graph(g), room.Part(p), room.Table(turn)
+	return room.Fault(func() [][]int { return call(g, p, turn) })
+}
+
 // isOld tells whether all lists are as they were laid in.
 func (r *Room) isOld() bool {
 	for i, l := range r.lists {

@@ -40,6 +40,24 @@ func Ring(n int) api.Graph {
 	return g
 }
 
+// Star answers a graph in which 0 is joined to each of the other vertices.
+func Star(n int) api.Graph {
+	g := api.Graph{N: n}
+	for v := 1; v < n; v++ {
+		g.E = append(g.E, api.Edge{A: 0, B: v})
+	}
+	return g
+}
+
+// Bundle answers a graph of n edges, all of them from 0 to 1.
+func Bundle(n int) api.Graph {
+	g := api.Graph{N: 2}
+	for range n {
+		g.E = append(g.E, api.Edge{A: 0, B: 1})
+	}
+	return g
+}
+
 // Lists answers all lists of at most so many numbers out of those that are handed in: the shorter ones first, and of one length those whose first numbers come first.
 func Lists(most int, numbers ...int) [][]int {
 	all := [][]int{nil}
@@ -112,60 +130,6 @@ func IsPart(g api.Graph, p api.Part) bool {
 	return true
 }
 
-// Turns answers all turns of a right part, each list begun with its least dart.
-func Turns(g api.Graph, p api.Part) [][][]int {
-	all := [][][]int{nil}
-	for v := range g.N {
-		var next [][][]int
-		for _, turn := range all {
-			for _, l := range rounds(Leaving(g, p, v)) {
-				next = append(next, append(slices.Clone(turn), l))
-			}
-		}
-		all = next
-	}
-	return all
-}
-
-// Leaving answers the darts of a part that leave a vertex, rising, in the plainest way.
-func Leaving(g api.Graph, p api.Part, v int) []int {
-	var darts []int
-	for _, e := range p.E {
-		for i, end := range []int{g.E[e].A, g.E[e].B} {
-			if end == v {
-				darts = append(darts, 2*e+i)
-			}
-		}
-	}
-	return darts
-}
-
-// rounds answers all orders of a list that begin as it does.
-func rounds(l []int) [][]int {
-	if len(l) == 0 {
-		return [][]int{nil}
-	}
-	var all [][]int
-	for _, rest := range orders(l[1:]) {
-		all = append(all, append([]int{l[0]}, rest...))
-	}
-	return all
-}
-
-// orders answers all orders of a list.
-func orders(l []int) [][]int {
-	if len(l) == 0 {
-		return [][]int{nil}
-	}
-	var all [][]int
-	for i, x := range l {
-		for _, rest := range orders(slices.Concat(l[:i], l[i+1:])) {
-			all = append(all, append([]int{x}, rest...))
-		}
-	}
-	return all
-}
-
 // Alike tells whether two parts have the same.
 func Alike(a, b api.Part) bool {
 	return slices.Equal(a.V, b.V) && slices.Equal(a.E, b.E)
@@ -218,4 +182,27 @@ func WrongGraphs() []WrongGraph {
 		{api.Graph{E: Loops(1025)}, api.ErrLarge},
 		{api.Graph{N: 1, E: append(Loops(1023), api.Edge{A: -1})}, api.ErrLarge},
 	}
+}
+
+// WrongParts answers parts that aren't right, of a right graph that has two vertices and two edges at least.
+func WrongParts(g api.Graph) []api.Part {
+	const least, greatest = math.MinInt, math.MaxInt
+	all := UpTo(g.N)
+	var parts []api.Part
+	// Vertices that don't rise, or are none.
+	for _, l := range [][]int{{1, 0}, {0, 0}, {g.N}, {-1}, {0, g.N}, {-1, 0}, {least}, {greatest}, UpTo(g.N + 1)} {
+		parts = append(parts, api.Part{V: l})
+	}
+	// Edges that don't rise, or are none.
+	for _, l := range [][]int{{1, 0}, {0, 0}, {len(g.E)}, {-1}, {0, len(g.E)}, {-1, 0}, {least}, {greatest}, UpTo(len(g.E) + 1)} {
+		parts = append(parts, api.Part{V: all, E: l})
+	}
+	// Edges without one of their ends, or without both.
+	for e, ends := range g.E {
+		for _, v := range []int{ends.A, ends.B} {
+			parts = append(parts, api.Part{V: slices.Concat(all[:v], all[v+1:]), E: []int{e}})
+		}
+		parts = append(parts, api.Part{E: []int{e}})
+	}
+	return append(parts, api.Part{E: UpTo(len(g.E))})
 }

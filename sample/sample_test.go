@@ -27,6 +27,12 @@ func TestGraphsAndParts(t *testing.T) {
 	if !slices.Equal(g.E, Edges(0, 1, 1, 0)) {
 		t.Errorf("Ring: %v", g)
 	}
+	if g := Star(3); g.N != 3 || !slices.Equal(g.E, Edges(0, 1, 0, 2)) {
+		t.Errorf("Star: %v", g)
+	}
+	if g := Bundle(2); g.N != 2 || !slices.Equal(g.E, Edges(0, 1, 0, 1)) {
+		t.Errorf("Bundle: %v", g)
+	}
 	// Of no vertex, of one, of the other one, of both with four lists of edges.
 	if parts := Parts(g); len(parts) != 1+1+1+4 {
 		t.Errorf("%d parts", len(parts))
@@ -54,6 +60,39 @@ func TestTurns(t *testing.T) {
 	}
 	if all := Turns(api.Graph{}, api.Part{}); len(all) != 1 || len(all[0]) > 0 {
 		t.Errorf("Turns of nothing: %v", all)
+	}
+}
+
+func TestOtherTurns(t *testing.T) {
+	turn := [][]int{{0, 1, 2, 5}, {3, 4}, nil}
+	for name, c := range map[string]struct{ answer, want [][]int }{
+		"turned by 1": {Turned(turn, 1), [][]int{{1, 2, 5, 0}, {4, 3}, nil}},
+		"turned by 6": {Turned(turn, 6), [][]int{{2, 5, 0, 1}, {3, 4}, nil}},
+		"about":       {About(turn), [][]int{{0, 5, 2, 1}, {3, 4}, nil}},
+		"mingled":     {Mingled(api.Graph{N: 3, E: Edges(0, 0, 0, 1, 1, 0)}), [][]int{{0, 1, 2, 5}, {3, 4}, nil}},
+		"mingled 8":   {Mingled(api.Graph{N: 1, E: Loops(4)}), [][]int{{0, 5, 2, 7, 4, 1, 6, 3}}},
+	} {
+		if !slices.EqualFunc(c.answer, c.want, slices.Equal) {
+			t.Errorf("%s: %v", name, c.answer)
+		}
+	}
+	for _, c := range []struct {
+		d, other int
+		want     bool
+	}{{1, 0, true}, {0, 5, true}, {0, 1, false}, {2, 0, false}, {4, 3, true}, {3, 4, true}, {3, 5, false}, {6, 6, false}} {
+		if IsBehind(turn, c.d, c.other) != c.want {
+			t.Errorf("IsBehind of %d, %d: %v", c.d, c.other, !c.want)
+		}
+	}
+}
+
+func TestWrongParts(t *testing.T) {
+	for _, g := range []api.Graph{Ring(2), Ring(3), Star(4), Bundle(3), {N: 2, E: Loops(2)}} {
+		for _, p := range WrongParts(g) {
+			if IsPart(g, p) {
+				t.Errorf("%v is a part of %v", p, g)
+			}
+		}
 	}
 }
 
