@@ -177,23 +177,12 @@ func twinsBack(darts []int) []int {
 }
 
 func TestSmallGraphs(t *testing.T) {
-	for _, g := range slices.Concat(sample.Graphs(3, 2), sample.Graphs(2, 3)) {
-		for _, p := range sample.Parts(g) {
-			for i, turn := range sample.Turns(g, p) {
-				check(t, g, p, sample.Turned(turn, i))
-			}
-		}
+	for i, c := range sample.AllTurns(append(sample.Graphs(3, 2), sample.Graphs(2, 3)...)) {
+		check(t, c.G, c.P, sample.Turned(c.Turn, i))
 	}
 }
 
-// mixed answers a graph with what the chapter names: 0 to 3 hang together, with a loop, two edges between the same ends, a bridge and an end; 5 and 6 do; 8 has loops alone; 4, 7 and 9 have no edges.
-//
-//	0 -0- 1 -1- 2 -2- 0, 0 -3- 0, 1 -4- 0, 2 -5- 3, 5 -6- 6, 8 -7- 8, 8 -8- 8
-func mixed() api.Graph {
-	return api.Graph{N: 10, E: sample.Edges(0, 1, 1, 2, 2, 0, 0, 0, 1, 0, 2, 3, 5, 6, 8, 8, 8, 8)}
-}
-
-// mixedTurn answers turns of all of mixed: genus 1 at 8, all else is drawn on spheres.
+// mixedTurn answers turns of all of sample.Mixed: genus 1 at 8, all else is drawn on spheres.
 func mixedTurn() [][]int {
 	return [][]int{{0, 5, 6, 7, 9}, {2, 1, 8}, {10, 4, 3}, {11}, nil, {12}, {13}, {}, {14, 16, 15, 17}, nil}
 }
@@ -213,7 +202,7 @@ func checkWalksAre(t *testing.T, g api.Graph, p api.Part, turn [][]int, want ...
 }
 
 func TestWalks(t *testing.T) {
-	g := mixed()
+	g := sample.Mixed()
 	want := []Walk{
 		{-10, nil}, {-8, nil}, {-5, nil},
 		{0, []int{0, 2, 4}}, {1, []int{1, 9}}, {3, []int{3, 8, 7, 5, 10, 11}}, {6, []int{6}},
@@ -230,7 +219,7 @@ func TestWalks(t *testing.T) {
 }
 
 func TestWalksOfParts(t *testing.T) {
-	g := mixed()
+	g := sample.Mixed()
 	checkWalksAre(t, g, api.Part{V: []int{0, 1, 2, 3}, E: []int{1, 2, 4}}, [][]int{{5, 9}, {8, 2}, {4, 3}, nil, nil, nil, nil, nil, nil, nil},
 		Walk{-4, nil}, Walk{2, []int{2, 4, 9}}, Walk{3, []int{3, 8, 5}})
 	checkWalksAre(t, g, api.Part{V: []int{2, 3, 8}, E: []int{5, 8}}, [][]int{nil, nil, {10}, {11}, nil, nil, nil, nil, {17, 16}, nil},
@@ -266,7 +255,7 @@ func TestWalksOfPlainGraphs(t *testing.T) {
 // Promise 7.1: Key.
 
 func TestKey(t *testing.T) {
-	g := mixed()
+	g := sample.Mixed()
 	keys := map[int]int{
 		0: 0, 1: 1, 2: 0, 3: 3, 4: 0, 5: 3, 6: 6, 7: 3, 8: 3, 9: 1, 10: 3, 11: 3, 12: 12, 13: 12, 14: 14, 15: 14, 16: 14, 17: 14,
 		-5: -5, -8: -8, -10: -10,
@@ -288,7 +277,7 @@ func TestKey(t *testing.T) {
 }
 
 func TestKeyOfParts(t *testing.T) {
-	g := mixed()
+	g := sample.Mixed()
 	p := api.Part{V: []int{0, 1, 2, 3, 8}, E: []int{1, 2, 4}}
 	turn := [][]int{{5, 9}, {8, 2}, {4, 3}, nil, nil, nil, nil, nil, nil, nil}
 	keys := map[int]int{2: 2, 4: 2, 9: 2, 3: 3, 8: 3, 5: 3, -4: -4, -9: -9}
@@ -328,7 +317,7 @@ func checkRefused(t *testing.T, g api.Graph, p api.Part, turn [][]int, want api.
 }
 
 func TestNoTurns(t *testing.T) {
-	g := mixed()
+	g := sample.Mixed()
 	right := mixedTurn()
 	for _, turn := range [][][]int{
 		nil, {}, make([][]int, 10), right[:9], right[1:], append(mixedTurn(), nil), append([][]int{nil}, right...), {slices.Concat(right...)}, make([][]int, 1<<16),
@@ -361,7 +350,7 @@ func TestNoTurns(t *testing.T) {
 }
 
 func TestFirstErrors(t *testing.T) {
-	g := mixed()
+	g := sample.Mixed()
 	turns := [][][]int{mixedTurn(), nil, {{0}}, make([][]int, 10)}
 	for _, p := range sample.WrongParts(g) {
 		for _, turn := range turns {
@@ -391,7 +380,7 @@ func checkGenusIs(t *testing.T, g api.Graph, p api.Part, turn [][]int, want ...i
 }
 
 func TestGenus(t *testing.T) {
-	g := mixed()
+	g := sample.Mixed()
 	all := graph.Whole(g)
 	for i := range 4 {
 		checkGenusIs(t, g, all, sample.Turned(mixedTurn(), i), 0, 0, 0, 0, 1, 0)
@@ -473,7 +462,7 @@ func checkCorners(t *testing.T, g api.Graph, w Walk, want ...int) {
 }
 
 func TestCorners(t *testing.T) {
-	g := mixed()
+	g := sample.Mixed()
 	// The key of a walk with darts, and whether it is one at all, makes no difference.
 	for _, key := range []int{0, 3, -1, -5, -11, 18, 99, least, greatest} {
 		checkCorners(t, g, Walk{key, []int{3, 8, 7, 5, 10, 11}}, 2, 1, 0, 0, 2, 3)
@@ -487,7 +476,7 @@ func TestCorners(t *testing.T) {
 }
 
 func TestCornersOfNoDarts(t *testing.T) {
-	g := mixed()
+	g := sample.Mixed()
 	right := []int{3, 8, 7}
 	for _, d := range []int{18, 19, 2047, -1, -2, -5, -18, least, least + 1, greatest, greatest - 1} {
 		checkCorners(t, g, Walk{3, []int{d}})
@@ -507,7 +496,7 @@ func TestCornersOfNoDarts(t *testing.T) {
 }
 
 func TestCornersOfWalksWithoutDarts(t *testing.T) {
-	graphs := []api.Graph{{}, {N: 1}, {N: 2, E: sample.Edges(0, 1)}, mixed(), {N: 1024}}
+	graphs := []api.Graph{{}, {N: 1}, {N: 2, E: sample.Edges(0, 1)}, sample.Mixed(), {N: 1024}}
 	for _, c := range sample.WrongGraphs() {
 		graphs = append(graphs, c.G)
 	}
@@ -615,23 +604,18 @@ func told(g api.Graph, p api.Part, turn [][]int) [][]int {
 }
 
 func TestNothingIsChangedOrShared(t *testing.T) {
-	graphs := append(sample.Graphs(2, 2), mixed())
-	for _, g := range graphs {
-		for _, p := range sample.Parts(g) {
-			for i, turn := range sample.Turns(g, p) {
-				if g.N > 2 && i > 0 {
-					break // one of many
-				}
-				if err := sample.FaultOf(g, p, sample.Turned(turn, 1), told); err != nil {
-					t.Fatalf("%v, %v, %v: %v", g, p, turn, err)
-				}
-			}
+	for i, c := range sample.AllTurns(append(sample.Graphs(2, 2), sample.Mixed())) {
+		if c.G.N > 2 && i > 0 {
+			continue // one of many
+		}
+		if err := sample.FaultOf(c.G, c.P, sample.Turned(c.Turn, 1), told); err != nil {
+			t.Fatalf("%v, %v, %v: %v", c.G, c.P, c.Turn, err)
 		}
 	}
 }
 
 func TestRefusedListsArentChanged(t *testing.T) {
-	g := mixed()
+	g := sample.Mixed()
 	for _, wrong := range [][]int{{0, 5, 6, 7}, {9, 0, 5, 6, 6}, {9, 0, 5, 6, 18}, nil} {
 		turn := mixedTurn()
 		turn[0] = wrong
@@ -642,7 +626,7 @@ func TestRefusedListsArentChanged(t *testing.T) {
 }
 
 func TestWalksArentChangedOrShared(t *testing.T) {
-	for _, g := range []api.Graph{mixed(), {N: 2, E: sample.Edges(0, 5)}} {
+	for _, g := range []api.Graph{sample.Mixed(), {N: 2, E: sample.Edges(0, 5)}} {
 		for _, w := range []Walk{{3, []int{3, 8, 7, 5}}, {3, []int{3, 8, 99}}, {-1, nil}, {-2, []int{}}, {-11, nil}, {0, []int{0, 0}}} {
 			room := &sample.Room{}
 			laidGraph, laid := room.Graph(g), Walk{w.Key, room.List(w.Darts)}
@@ -654,7 +638,7 @@ func TestWalksArentChangedOrShared(t *testing.T) {
 }
 
 func TestWhatIsWrittenIntoWalksIsntSeen(t *testing.T) {
-	g := mixed()
+	g := sample.Mixed()
 	want, _ := Walks(g, graph.Whole(g), mixedTurn())
 	first, _ := Walks(g, graph.Whole(g), mixedTurn())
 	for i := range first[:cap(first)] {

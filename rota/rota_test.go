@@ -116,18 +116,14 @@ func checkUndone(t *testing.T, r *Rota) {
 }
 
 func TestSmallGraphs(t *testing.T) {
-	for _, g := range append(sample.Graphs(3, 2), sample.Graphs(2, 3)...) {
-		for _, p := range sample.Parts(g) {
-			for i, turn := range sample.Turns(g, p) {
-				r, e := New(g, p, sample.Turned(turn, i))
-				if e != api.OK {
-					t.Fatalf("%v, %v: New of %v: %d", g, p, sample.Turned(turn, i), e)
-				}
-				checkTurns(t, g, p, r, turn)
-				checkTurns(t, g, p, r.Mirror(), sample.About(turn))
-				checkUndone(t, r)
-			}
+	for i, c := range sample.AllTurns(append(sample.Graphs(3, 2), sample.Graphs(2, 3)...)) {
+		r, e := New(c.G, c.P, sample.Turned(c.Turn, i))
+		if e != api.OK {
+			t.Fatalf("%v, %v: New of %v: %d", c.G, c.P, sample.Turned(c.Turn, i), e)
 		}
+		checkTurns(t, c.G, c.P, r, c.Turn)
+		checkTurns(t, c.G, c.P, r.Mirror(), sample.About(c.Turn))
+		checkUndone(t, r)
 	}
 }
 
@@ -567,18 +563,12 @@ func toldOf() func(api.Graph, api.Part, [][]int) [][]int {
 }
 
 func TestNothingIsChangedOrShared(t *testing.T) {
-	graphs := append(sample.Graphs(2, 2), mixed())
-	for _, g := range graphs {
-		for _, p := range sample.Parts(g) {
-			for i, turn := range sample.Turns(g, p) {
-				if g.N > 2 && i > 0 {
-					break // one of many
-				}
-				err := sample.FaultOf(g, p, sample.Turned(turn, 1), toldOf())
-				if err != nil {
-					t.Fatalf("%v, %v, %v: %v", g, p, turn, err)
-				}
-			}
+	for i, c := range sample.AllTurns(append(sample.Graphs(2, 2), mixed())) {
+		if c.G.N > 2 && i > 0 {
+			continue // one of many
+		}
+		if err := sample.FaultOf(c.G, c.P, sample.Turned(c.Turn, 1), toldOf()); err != nil {
+			t.Fatalf("%v, %v, %v: %v", c.G, c.P, c.Turn, err)
 		}
 	}
 }

@@ -50,6 +50,18 @@ func (r *Room) Part(p api.Part) api.Part {
 	return api.Part{V: r.List(p.V), E: r.List(p.E)}
 }
 
+// Plan lays a plan into the room.
+func (r *Room) Plan(x api.Plan) api.Plan {
+	return api.Plan{Turn: r.Table(x.Turn), Same: r.Table(x.Same)}
+}
+
+// Taken answers the lists of a table that was handed out, and writes over the table itself: who keeps it, or handed in what it shares memory with, sees it.
+func Taken(table [][]int) [][]int {
+	lists := slices.Clone(table)
+	fill(table, []int{-1})
+	return lists
+}
+
 // Fault answers what a call does that it may not: it changes what was laid into the room, keeps it, or hands out lists that share memory. The room is of no use behind it.
 func (r *Room) Fault(call func() [][]int) error {
 	answer, other := call(), call()

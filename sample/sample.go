@@ -1,4 +1,4 @@
-// Package sample makes what tests of several layers hand in: small graphs, all of their parts and these parts' turns, graphs that aren't right, lists with spare room. No layer calls it.
+// Package sample makes what tests of several layers hand in: small graphs, all of their parts, these parts' turns and drawings, graphs that aren't right, lists with spare room. No layer calls it.
 package sample
 
 import (

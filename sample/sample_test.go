@@ -164,3 +164,111 @@ func TestFault(t *testing.T) {
 		}
 	}
 }
+
+func TestAllTurns(t *testing.T) {
+	// Of a loop: its vertex alone, the loop, nothing; of two loops the whole has six turns.
+	places := []int{}
+	for i, c := range AllTurns([]api.Graph{{}, {N: 1, E: Loops(2)}}) {
+		if !IsPart(c.G, c.P) || len(c.Turn) != c.G.N {
+			t.Errorf("%v", c)
+		}
+		places = append(places, i)
+	}
+	if !slices.Equal(places, []int{0, 0, 0, 0, 0, 0, 1, 2, 3, 4, 5}) {
+		t.Errorf("AllTurns: %v", places)
+	}
+	for i, c := range AllTurns([]api.Graph{{}, Ring(3)}) {
+		if i != 0 || c.G.N != 0 {
+			t.Errorf("%d, %v", i, c)
+		}
+		break
+	}
+}
+
+func TestWalks(t *testing.T) {
+	// A loop at 0, an edge to 1 and one from there; nothing at 2, and 3 is no vertex of the part.
+	p := api.Part{V: UpTo(3), E: UpTo(3)}
+	walks := Walks(p, [][]int{{2, 5, 0, 1}, {4, 3}, nil, nil})
+	if want := [][]int{{-3}, {0}, {1, 5, 3}, {2, 4}}; !slices.EqualFunc(walks, want, slices.Equal) {
+		t.Errorf("Walks: %v", walks)
+	}
+	if walks := Walks(api.Part{}, nil); len(walks) > 0 {
+		t.Errorf("Walks of nothing: %v", walks)
+	}
+}
+
+func TestPartitions(t *testing.T) {
+	want := [][][]int{{{1}, {2}, {5}}, {{1, 5}, {2}}, {{1}, {2, 5}}, {{1, 2}, {5}}, {{1, 2, 5}}}
+	all := Partitions(1, 2, 5)
+	if !slices.EqualFunc(all, want, func(a, b [][]int) bool { return slices.EqualFunc(a, b, slices.Equal) }) {
+		t.Errorf("Partitions: %v", all)
+	}
+	for n, count := range []int{1, 1, 2, 5, 15, 52, 203, 877} {
+		if all := Partitions(UpTo(n)...); len(all) != count {
+			t.Errorf("Partitions of %d: %d", n, len(all))
+		}
+	}
+	if lists := Together([][]int{{1}, {2, 5}, {3}, {4, 6, 7}}); !slices.EqualFunc(lists, [][]int{{2, 5}, {4, 6, 7}}, slices.Equal) {
+		t.Errorf("Together: %v", lists)
+	}
+}
+
+// How many ways there are to hang pieces together is known: their walks' counts, one times the other, times how many regions there are, once for each piece beyond two.
+func TestHangings(t *testing.T) {
+	for name, c := range map[string]struct {
+		g    api.Graph
+		turn [][]int
+		want int
+	}{
+		"nothing":              {api.Graph{}, nil, 1},
+		"a vertex":             {api.Graph{N: 1}, [][]int{nil}, 1},
+		"a ring":               {Ring(3), [][]int{{0, 5}, {1, 2}, {3, 4}}, 1},
+		"four vertices":        {api.Graph{N: 4}, make([][]int, 4), 1},
+		"a loop, a vertex":     {api.Graph{N: 2, E: Loops(1)}, [][]int{{0, 1}, nil}, 2},
+		"a loop, two vertices": {api.Graph{N: 3, E: Loops(1)}, [][]int{{0, 1}, nil, nil}, 2 * 2},
+		"two loops":            {api.Graph{N: 2, E: Edges(0, 0, 1, 1)}, [][]int{{0, 1}, {2, 3}}, 2 * 2},
+		"three loops":          {api.Graph{N: 3, E: Edges(0, 0, 1, 1, 2, 2)}, [][]int{{0, 1}, {2, 3}, {4, 5}}, 2 * 2 * 2 * 4},
+		"a bundle, two loops":  {api.Graph{N: 4, E: Edges(0, 1, 0, 1, 0, 1, 2, 2, 3, 3)}, [][]int{{0, 2, 4}, {5, 3, 1}, {6, 7}, {8, 9}}, 3 * 2 * 2 * 5},
+		"a loop, three apart":  {api.Graph{N: 4, E: Loops(1)}, [][]int{{0, 1}, nil, nil, nil}, 2 * 2 * 2},
+		"genus 1":              {Bundle(3), [][]int{{0, 2, 4}, {1, 3, 5}}, 0},
+		"genus 1, a vertex":    {api.Graph{N: 2, E: Loops(2)}, [][]int{{0, 2, 1, 3}, nil}, 0},
+	} {
+		p := api.Part{V: UpTo(c.g.N), E: UpTo(len(c.g.E))}
+		if all := Hangings(c.g, p, c.turn); len(all) != c.want {
+			t.Errorf("%s: Hangings: %v", name, all)
+		}
+	}
+	// Four of the six turns of two loops are on a sphere, with three walks each: the other vertex is in one of three regions.
+	g := api.Graph{N: 2, E: Loops(2)}
+	if all := Drawings(g, api.Part{V: UpTo(2), E: UpTo(2)}); len(all) != 4*3 {
+		t.Errorf("Drawings: %v", all)
+	}
+	if all := Drawings(g, api.Part{V: UpTo(2)}); len(all) != 1 || !slices.EqualFunc(all[0].Same, [][]int{{-2, -1}}, slices.Equal) || len(all[0].Turn) != 2 {
+		t.Errorf("Drawings of two vertices: %v", all)
+	}
+	if all := Drawings(g, api.Part{}); len(all) != 1 || len(all[0].Same) > 0 || len(all[0].Turn) != 2 {
+		t.Errorf("Drawings of nothing: %v", all)
+	}
+}
+
+func TestTaken(t *testing.T) {
+	table := append(make([][]int, 0, 5), []int{1}, []int{2, 3})
+	lists := Taken(table)
+	if !slices.EqualFunc(lists, [][]int{{1}, {2, 3}}, slices.Equal) || !slices.Equal(table[1], []int{-1}) || !slices.Equal(table[:3][2], []int{-1}) {
+		t.Errorf("Taken: %v, left %v", lists, table[:3])
+	}
+	for name, c := range map[string]struct {
+		call func(x api.Plan) [][]int
+		bad  bool
+	}{
+		"new turns":               {func(x api.Plan) [][]int { return Taken(slices.Clone([][]int{{1}})) }, false},
+		"turns that it was given": {func(x api.Plan) [][]int { Taken(x.Turn); return nil }, true},
+		"lists that it was given": {func(x api.Plan) [][]int { Taken(x.Same[:1]); return nil }, true},
+	} {
+		room := &Room{}
+		x := room.Plan(api.Plan{Turn: [][]int{{0, 1}, nil}, Same: [][]int{{-2, 0}}})
+		if err := room.Fault(func() [][]int { return c.call(x) }); (err != nil) != c.bad {
+			t.Errorf("%s: %v", name, err)
+		}
+	}
+}

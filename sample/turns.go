@@ -1,6 +1,7 @@
 package sample
 
 import (
+	"iter"
 	"slices"
 
 	"tracery/api"
@@ -110,4 +111,26 @@ func IsBehind(turn [][]int, d, other int) bool {
 		}
 	}
 	return false
+}
+
+// Drawn is turns of a right part of a graph.
+type Drawn struct {
+	G    api.Graph
+	P    api.Part
+	Turn [][]int
+}
+
+// AllTurns goes through all turns of all parts of right graphs, each with its place among the turns of its part.
+func AllTurns(graphs []api.Graph) iter.Seq2[int, Drawn] {
+	return func(yield func(int, Drawn) bool) {
+		for _, g := range graphs {
+			for _, p := range Parts(g) {
+				for i, turn := range Turns(g, p) {
+					if !yield(i, Drawn{G: g, P: p, Turn: turn}) {
+						return
+					}
+				}
+			}
+		}
+	}
 }
